@@ -1,0 +1,1 @@
+"""Draftward: a server that writes texts with a model, and changes nothing of their chances."""
