@@ -67,3 +67,13 @@ def certificate(right, thing):
     """Return the certificate that tells whether, or where, the tuple thing differs from right."""
     at = first_difference(right, thing)
     return ("right",) if at is None else ("wrong", at)
+
+
+def are_open_tokens(thing, many):
+    """Tell whether thing is a tuple, perhaps empty, of some of so many tokens, none of them the end token."""
+    return are_tokens(thing, many) and 0 not in thing
+
+
+def is_tape(thing):
+    """Tell whether thing is a tape: a tuple, perhaps empty, of integers from 0 on."""
+    return isinstance(thing, tuple) and all(is_integer_from(item, 0) for item in thing)

@@ -45,6 +45,18 @@ def is_plain(node):
     return not any(isinstance(part, (ast.Call, ast.Lambda)) for part in ast.walk(node.value))
 
 
+def own_methods():
+    """Return the names of the methods, and those of the attributes, of all classes of the package."""
+    methods = set()
+    attributes = set()
+    for _, node in all_nodes():
+        if isinstance(node, ast.ClassDef):
+            methods |= {part.name for part in node.body if isinstance(part, ast.FunctionDef)}
+        if isinstance(node, ast.Attribute) and isinstance(node.ctx, ast.Store):
+            attributes.add(node.attr)
+    return methods - {"__init__"}, attributes
+
+
 def own_names(tree):
     found = []
     for node in tree.body:
@@ -134,6 +146,7 @@ class Language(unittest.TestCase):
         # The doctest runner may leave a "_" among the builtins.
         words = set(dir(builtins)) - {"_"}
         own = {name for file in FILES for name in own_names(tree_of(file))}
+        methods, _ = own_methods()
         self.assertFalse(own & words)
         for place, node in all_nodes():
             if isinstance(node, ast.Name):
@@ -145,13 +158,47 @@ class Language(unittest.TestCase):
                 self.assertNotIn(node.arg, words | BARRED, place)
                 self.assertIsNone(node.annotation, place)
             if isinstance(node, ast.Call) and isinstance(node.func, ast.Attribute):
-                self.assertIn(node.func.attr, METHODS, place)
+                self.assertIn(node.func.attr, METHODS | methods, place)
 
-    def test_no_name_hides_a_class_or_an_import_of_its_file(self):
+    def test_methods_and_attributes_have_names_of_their_own(self):
+        methods, attributes = own_methods()
+        self.assertFalse(methods & attributes)
+        for name in methods | attributes:
+            self.assertRegex(name, "^_?[a-z][a-z_]*$")
+            self.assertFalse([kind for kind in (int, str, list, dict, set, bytes, tuple) if hasattr(kind, name)], name)
+            self.assertNotIn(name, BARRED)
+
+    def test_attributes_are_assigned_through_self_by_methods(self):
+        for place, node in all_nodes():
+            if isinstance(node, ast.Attribute) and isinstance(node.ctx, ast.Store):
+                self.assertEqual(ast.unparse(node.value), "self", place)
+
+    def test_what_is_iterated_at_once_is_not_kept(self):
+        views = {"zip", "enumerate", "reversed", "range", "map", "iter", "next", "set", "frozenset"}
+        for place, node in all_nodes():
+            self.assertNotIsInstance(node, (ast.Yield, ast.YieldFrom, ast.Lambda, ast.Try, ast.With, ast.Match), place)
+            if isinstance(node, (ast.Assign, ast.Return)):
+                call = node.value
+                if isinstance(call, ast.Call) and isinstance(call.func, ast.Name):
+                    self.assertNotIn(call.func.id, views, place)
+                if isinstance(call, ast.Call) and isinstance(call.func, ast.Attribute):
+                    self.assertNotIn(call.func.attr, {"items", "keys", "values"}, place)
+
+    def test_sets_stand_in_len_and_sorted_alone(self):
+        for file in FILES:
+            tree = tree_of(file)
+            fine = [part for node in ast.walk(tree) if isinstance(node, ast.Call) and isinstance(node.func, ast.Name)
+                    and node.func.id in ("len", "sorted") for part in node.args]
+            for node in ast.walk(tree):
+                self.assertNotIsInstance(node, (ast.Set, ast.SetComp), file.name)
+                if isinstance(node, ast.Call) and isinstance(node.func, ast.Name) and node.func.id == "set":
+                    self.assertIn(node, fine, f"{file.name}:{node.lineno}")
+
+    def test_no_name_hides_a_class_a_function_or_an_import_of_its_file(self):
         for file in FILES:
             tree = tree_of(file)
             fixed = {alias.name for node in tree.body if isinstance(node, ast.ImportFrom) for alias in node.names}
-            fixed |= {node.name for node in tree.body if isinstance(node, ast.ClassDef)}
+            fixed |= {node.name for node in tree.body if isinstance(node, (ast.ClassDef, ast.FunctionDef))}
             for node in ast.walk(tree):
                 if isinstance(node, ast.Name) and isinstance(node.ctx, ast.Store):
                     self.assertNotIn(node.id, fixed, f"{file.name}:{node.lineno}")

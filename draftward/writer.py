@@ -1,0 +1,120 @@
+"""The plain writer: next weights, draws, and the chances of all outcomes."""
+
+from draftward.errors import BadNumber, BadOutcome, BadTokens, BadWeights
+from draftward.kinds import are_open_tokens, are_weights, is_integer_from, is_tuple_of
+from draftward.models import weights_after
+from draftward.needs import need_model, need_number, need_prompt, need_settings, need_tape
+from draftward.rounds import TapeReader
+from draftward.settings import applied, are_steps
+from draftward.weights import PlainWeights, fraction
+
+
+def are_settings(model, thing):
+    """Tell whether any value are settings for the model's size."""
+    need_model(model)
+    return are_steps(thing, model[1])
+
+
+def next_weights(model, settings, tokens, answered):
+    """Return the next weights after the tokens, the last ones of which, as many as answered, are the answer."""
+    need_model(model)
+    need_settings(model, settings)
+    need_tokens_so_far(model, tokens, answered)
+    return applied(settings, weights_after(model, tokens), tokens, answered)
+
+
+def draw(weights, tape, used):
+    """Return the token that is drawn by the weights with the integer at position used, and the next position."""
+    if not are_weights(weights):
+        raise BadWeights(weights)
+    need_tape(tape)
+    need_number(used, 0)
+    reader = TapeReader(tape, used)
+    token = reader.token_by(weights)
+    return (token, reader.used)
+
+
+def write_plain(model, settings, prompt, most, tape):
+    """Return the answer of the plain writer, the reason why it ends, and the number of draws."""
+    _need_asking(model, settings, prompt, most)
+    need_tape(tape)
+    weights = PlainWeights(model, settings, prompt)
+    reader = TapeReader(tape, 0)
+    answer = ()
+    while len(answer) < most:
+        token = reader.token_by(weights.after(answer))
+        if token == 0:
+            return (answer, "end", reader.used)
+        answer = (*answer, token)
+    return (answer, "most", reader.used)
+
+
+def plain_chance(model, settings, prompt, most, outcome):
+    """Return the chance that the plain writer comes to the outcome."""
+    _need_asking(model, settings, prompt, most)
+    if not _is_outcome(outcome, model[1], most):
+        raise BadOutcome(outcome)
+    weights = PlainWeights(model, settings, prompt)
+    answer, reason = outcome
+    drawn = answer if reason == "most" else (*answer, 0)
+    n = 1
+    d = 1
+    for at, token in enumerate(drawn):
+        after = weights.after(answer[:at])
+        n *= after[token]
+        d *= sum(after)
+    return fraction(n, d)
+
+
+def plain_chances(model, settings, prompt, most):
+    """Return the pairs of all outcomes that can come and their chances, in ascending order."""
+    _need_asking(model, settings, prompt, most)
+    return chances_by(PlainWeights(model, settings, prompt), most)
+
+
+def chances_by(weights, most):
+    """Return the pairs of all outcomes that can come and their chances, if the weights are those of each draw."""
+    found = []
+    going = [((), (1, 1))]
+    length = 0
+    while going and length < most:
+        longer = []
+        for answer, chance in going:
+            ended, *continued = _continued(weights.after(answer), chance)
+            found.append(((answer, "end"), ended))
+            longer.extend([((*answer, 1 + at), after) for at, after in enumerate(continued)])
+        going = [(answer, chance) for answer, chance in longer if chance[0] > 0]
+        length += 1
+    found.extend([((answer, "most"), chance) for answer, chance in going])
+    return tuple(sorted([(outcome, chance) for outcome, chance in found if chance[0] > 0]))
+
+
+def need_tokens_so_far(model, tokens, answered):
+    """Raise BadTokens or BadNumber if the values are not tokens of a prompt and an answer, and the answer's length."""
+    if not are_open_tokens(tokens, model[1]) or tokens == ():
+        raise BadTokens(tokens)
+    if not is_integer_from(answered, 0) or answered > len(tokens):
+        raise BadNumber(answered)
+
+
+def _need_asking(model, settings, prompt, most):
+    need_model(model)
+    need_settings(model, settings)
+    need_prompt(model, prompt)
+    need_number(most, 0)
+
+
+def _is_outcome(thing, many, most):
+    if not is_tuple_of(thing, 2):
+        return False
+    answer, reason = thing
+    if not are_open_tokens(answer, many):
+        return False
+    return (reason == "most" and len(answer) == most) or (reason == "end" and len(answer) < most)
+
+
+def _continued(weights, chance):
+    """Return for each token the chance that it is drawn by the weights after what came with the chance."""
+    n, d = chance
+    whole = sum(weights)
+    return [fraction(n * weight, d * whole) for weight in weights]
