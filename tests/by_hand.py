@@ -1,5 +1,6 @@
 """What the document promises of its parts 3 to 7, worked out in other words than the program's."""
 
+import functools
 import itertools
 import math
 from fractions import Fraction
@@ -276,6 +277,7 @@ def writers_of(model, vocabulary, request):
     return p, plain(drafting[0], drafting[1], prompt), drafting[2]
 
 
+@functools.lru_cache(maxsize=None)
 def course(model, vocabulary, request):
     """Return the list of (answer, used) before each round of the request alone, and (answer, reason, used, rounds)."""
     p, q, plan = writers_of(model, vocabulary, request)
@@ -408,8 +410,7 @@ def is_right_server(thing):
     if vocabulary is not None and (not is_vocabulary(vocabulary) or size(vocabulary) != model[1]):
         return False
     return type(table) is tuple and len(table) > 0 and all(
-        type(row) is tuple and len(row) > 0 and all(type(word) is str and word in {"go", "wait", "lose"} for word in row)
-        for row in table)
+        type(row) is tuple and len(row) > 0 and set(map(repr, row)) <= {"'go'", "'wait'", "'lose'"} for row in table)
 
 
 def are_right_arrivals(server, thing):

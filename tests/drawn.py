@@ -1,6 +1,8 @@
 """Models, settings, requests and servers that a seeded source draws, all within the limits of the document."""
 
+import by_hand
 from draftward.grammars import is_request
+from draftward.models import rows_of
 
 VOCABULARIES = {2: ("vocabulary", "a", ()), 3: ("vocabulary", "ba", ()), 4: ("vocabulary", "ab", ((1, 2),))}
 
@@ -93,3 +95,36 @@ def some_server(source):
 def some_arrivals(source, server):
     steps = sorted(source.randint(0, 6) for _ in range(source.randint(0, 4)))
     return tuple((step, some_request(source, server[0], server[1])) for step in steps)
+
+
+def some_standing(source, server, arrivals):
+    """Return a standing, most often one that no run from the beginning comes to."""
+    model, vocabulary, many, places, _, _ = server
+    pool = by_hand.Pool((places, (None,) * many, ()))
+    free, active, done = many, [], []
+    for number in source.sample(range(len(arrivals)), len(arrivals)):
+        request = arrivals[number][1]
+        needed = by_hand.need(server, request)
+        if source.random() < 0.3 or needed > many:
+            if source.random() < 0.7:
+                done.append((number, by_hand.outcome_of(server, request)))
+        elif needed <= free:
+            free -= needed
+            before, _ = by_hand.course(model, vocabulary, request)
+            rounds = source.randrange(len(before))
+            active.append((number, *before[rounds], rounds))
+            fill(source, model, pool, number, request[1] + before[rounds][0])
+    return (source.randint(0, 40), pool.value(), tuple(active), tuple(sorted(done)))
+
+
+def fill(source, model, pool, number, tokens):
+    """Let the request keep a beginning of its tokens, perhaps with pages that it shares, also ones that are not full."""
+    rows = rows_of(model, tokens)
+    pool.lists[number] = []
+    for other in source.sample(list(pool.lists), len(pool.lists)):
+        mine = [token for token, _ in pool.kept(other)]
+        if mine == list(tokens[:len(mine)]) and source.random() < 0.7:
+            pool.copy(other, number)
+            break
+    for at in range(len(pool.kept(number)), source.randint(0, len(tokens))):
+        assert pool.add(number, tokens[at], rows[at])

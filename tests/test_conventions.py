@@ -4,14 +4,29 @@ import copy
 import inspect
 import unittest
 
-from draftward import models, tokens
-from draftward.errors import DraftError
+from draftward import drafts, grammars, models, pages, servers, tokens, writer
+from draftward.errors import DraftError, NoFit
 from samples import ODD, Case, spoiled
 
 LAST = ("window", 3, 1, (((1,), (0, 1, 3)),), (1, 2, 1))
 ONE = ((1,),)
 NET = ("net", 2, 1, ((1,), (2,)), ((0,),), ((ONE, ONE, ONE, ONE),), ((0,), (1,)))
 PAIRS = ("vocabulary", "ab", ((1, 2),))
+
+COIN = ("window", 3, 0, (), (1, 2, 1))
+LETTERS = ("vocabulary", "ab", ())
+ENDS = ("grammar", 2, 0, (1,), ((0, "a", 0), (0, "b", 1)))
+STEPS = (("least", 1), ("ban", (0,)))
+ROW = (COIN, (("power", 2),), (("row", 2), ("several", 1)))
+ASK = ("request", (1,), 2, STEPS, ROW, ENDS, (3, 1))
+ASKING = {"model": COIN, "settings": STEPS, "prompt": (1, 2), "most": 2}
+BOUND = {"model": COIN, "settings": (), "vocabulary": LETTERS, "grammar": ENDS, "prompt": (1,), "most": 2}
+ROUND = {"answer": (1,), "tape": (1, 2, 0), "used": 1, "number": 0}
+POOL = (2, (((1, (1,)), (2, (2,))), ((1, (1,)),), None), ((0, (0, 1)), (4, (0,))))
+HELD = {"model": LAST, "pool": POOL, "number": 0}
+SERVER = (COIN, LETTERS, 4, 2, 1, (("go", "wait"), ("lose",)))
+ARRIVALS = ((0, ASK), (1, ("request", (1, 2), 1, (), None, None, ())))
+STANDING = (3, (2, (((1, (1,)),), None, None, None), ((0, (0,)),)), ((0, (), 0, 0),), ((1, ((), "end")),))
 
 INTERFACE = {
     tokens: (
@@ -31,8 +46,56 @@ INTERFACE = {
         ("stepped", {"model": NET, "rows": ((((2,), (2,)),),), "token": 0}),
         ("judge_rows", {"model": LAST, "tokens": (1, 0), "thing": ((1,), (0,))}),
     ),
+    writer: (
+        ("are_settings", {"model": COIN, "thing": STEPS}),
+        ("next_weights", {"model": COIN, "settings": STEPS, "tokens": (1, 2), "answered": 1}),
+        ("draw", {"weights": (1, 2, 1), "tape": (6, 7), "used": 1}),
+        ("write_plain", {**ASKING, "tape": (6, 7)}),
+        ("plain_chance", {**ASKING, "outcome": ((1, 2), "most")}),
+        ("plain_chances", ASKING),
+    ),
+    pages: (
+        ("is_pool", {"model": LAST, "thing": POOL}),
+        ("is_true", {"model": LAST, "pool": POOL}),
+        ("new_pool", {"model": LAST, "many": 3, "places": 2}),
+        ("kept", HELD),
+        ("free_pages", {"model": LAST, "pool": POOL}),
+        ("joined", {"model": LAST, "pool": POOL, "number": 1, "tokens": (1, 2, 1)}),
+        ("added", {**HELD, "token": 1, "row": (1,)}),
+        ("copied", {**HELD, "new": 2}),
+        ("cleared", HELD),
+        ("lost", HELD),
+    ),
+    servers: (
+        ("is_server", {"thing": SERVER}),
+        ("are_arrivals", {"server": SERVER, "thing": ARRIVALS}),
+        ("begun", {"server": SERVER, "arrivals": ARRIVALS}),
+        ("need", {"server": SERVER, "request": ASK}),
+        ("stepped_once", {"server": SERVER, "arrivals": ARRIVALS, "standing": STANDING}),
+        ("is_standing", {"server": SERVER, "arrivals": ARRIVALS, "thing": STANDING}),
+        ("ended", {"server": SERVER, "arrivals": ARRIVALS}),
+    ),
+    drafts: (
+        ("is_drafting", {"model": COIN, "thing": ROW}),
+        ("rest", {"weights": (1, 2, 1), "draft_weights": (1, 1, 1)}),
+        ("round_of", {"model": COIN, "settings": STEPS, "drafting": ROW, "prompt": (1,), "most": 3, **ROUND}),
+    ),
+    grammars: (
+        ("is_grammar", {"thing": ENDS}),
+        ("state_after", {"grammar": ENDS, "text": "aab"}),
+        ("ending", {**BOUND, "answer": (1,)}),
+        ("bound_weights", {**BOUND, "answer": (1,)}),
+        ("round_bound", {**BOUND, "drafting": ROW, **ROUND}),
+        ("is_request", {"model": COIN, "vocabulary": LETTERS, "thing": ASK}),
+        ("alone", {"model": COIN, "vocabulary": LETTERS, "request": ASK}),
+    ),
 }
 CALLS = [(getattr(module, name), given) for module, rows in INTERFACE.items() for name, given in rows]
+
+
+def within_reason(thing):
+    """Tell whether thing has no number that may be right, but is so far beyond the limits that a call would not end."""
+    return "0" * 39 not in repr(thing)
 
 
 def are_plain(value):
@@ -76,7 +139,7 @@ class Conventions(Case):
         for function, given in CALLS:
             names = [name for name in given if name != "thing"]
             for at, name in enumerate(names):
-                wrong = [["wrong"], {"a": 1}, None]
+                wrong = [["wrong"], {"a": 1}, "Wrong!"]
                 args = {**given, **{other: wrong[k % 3] for k, other in enumerate(names) if k >= at}}
                 with self.assertRaises(DraftError) as caught:
                     function(**args)
@@ -85,31 +148,35 @@ class Conventions(Case):
     def test_no_argument_is_changed(self):
         for function, given in CALLS:
             for name in given:
-                for odd in [*ODD, list(given.values()), [[1], [2]], {"a": [1]}]:
+                for odd in filter(within_reason, [*ODD, list(given.values()), [[1], [2]], {"a": [1]}]):
                     args = {**given, name: odd}
                     before = repr(args)
                     try:
                         function(**args)
                     except DraftError as error:
-                        self.assertIs(error.thing, odd)
+                        # An argument that is right alone may make one behind it wrong.
+                        self.assertIn(id(error.thing), [id(value) for value in args.values()])
                     self.assertEqual(repr(args), before)
 
     def test_any_value_gives_a_result_or_an_error_of_the_list(self):
         for function, given in CALLS:
             for name in given:
-                for thing in spoiled(given[name]):
+                for thing in filter(within_reason, spoiled(given[name])):
                     args = {**given, name: thing}
                     try:
                         self.assertTrue(are_plain(function(**args)))
+                    except NoFit:
+                        self.assertIn(function, (grammars.bound_weights, grammars.round_bound))
                     except DraftError as error:
                         # The other arguments may be wrong for what is a vocabulary or a model after all.
                         self.assertIn(id(error.thing), [id(value) for value in args.values()])
 
     def test_is_functions_return_true_or_false(self):
         for function, given in CALLS:
-            if function.__name__.startswith("is_"):
-                for thing in (*ODD, *spoiled(given["thing"])):
-                    self.assertIn(repr(function(thing)), ("True", "False"))
+            if function.__name__.startswith(("is_", "are_")):
+                for thing in (*ODD, *spoiled(given.get("thing"))):
+                    told = function(**{**given, "thing": thing}) if "thing" in given else function(**given)
+                    self.assertIn(repr(told), ("True", "False"))
 
     def test_certificates_are_tuples_of_the_stated_length(self):
         for function, given in CALLS:

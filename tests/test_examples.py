@@ -23,6 +23,42 @@ MODELS = """
 [(4, 64), ((((2,), (2,)),),), ((((1,), (1,)),), (16, 64)), ('wrong', 1)]
 """
 
+WRITER = """
+>>> from draftward.writer import draw, next_weights, plain_chance, plain_chances, write_plain
+>>> COIN = ("window", 3, 0, (), (1, 2, 1))
+>>> [next_weights(COIN, (), (1,), 0), next_weights(COIN, (("power", 2), ("greatest", 2)), (1,), 0), next_weights(COIN, (("ban", (0, 2)), ("seen", 3, 1)), (1,), 0), next_weights(COIN, (("share", 1, 2),), (2,), 1)]
+[(1, 2, 1), (1, 4, 0), (0, 6, 0), (0, 2, 0)]
+>>> [draw((1, 2, 1), (6, 7), 0), draw((1, 2, 1), (6, 7), 1), draw((1, 2, 1), (6, 7), 2), write_plain(COIN, (), (1,), 3, (1, 3, 4))]
+[(1, 1), (2, 2), (0, 3), ((1, 2), 'end', 3)]
+>>> plain_chances(COIN, (), (1,), 1)
+((((), 'end'), (1, 4)), (((1,), 'most'), (1, 2)), (((2,), 'most'), (1, 4)))
+>>> plain_chance(COIN, (), (1,), 2, ((1,), 'end'))
+(1, 8)
+"""
+
+PAGES = """
+>>> from draftward.pages import added, cleared, copied, free_pages, is_true, joined, kept, new_pool
+>>> LAST = ("window", 3, 1, (((1,), (0, 1, 3)),), (1, 2, 1))
+>>> ONE = added(LAST, added(LAST, joined(LAST, new_pool(LAST, 3, 2), 0, (1, 2, 1)), 0, 1, (1,)), 0, 2, (2,))
+>>> [ONE, joined(LAST, ONE, 1, (1, 2, 1))[2], joined(LAST, ONE, 1, (1, 2))[2], kept(LAST, ONE, 0), free_pages(LAST, ONE), is_true(LAST, ONE)]
+[(2, (((1, (1,)), (2, (2,))), None, None), ((0, (0,)),)), ((0, (0,)), (1, (0,))), ((0, (0,)), (1, ())), ((1, (1,)), (2, (2,))), 2, True]
+>>> TWO = copied(LAST, added(LAST, ONE, 0, 1, (1,)), 0, 7)
+>>> [TWO[2], added(LAST, TWO, 7, 2, (2,))[1:], cleared(LAST, TWO, 0)[2], added(LAST, added(LAST, TWO, 7, 2, (2,)), 7, 2, (2,))]
+[((0, (0, 1)), (7, (0, 1))), ((((1, (1,)), (2, (2,))), ((1, (1,)),), ((1, (1,)), (2, (2,)))), ((0, (0, 1)), (7, (0, 2)))), ((7, (0, 1)),), None]
+"""
+
+SERVERS = """
+>>> from draftward.servers import begun, ended, is_server, need, stepped_once
+>>> COIN = ("window", 3, 0, (), (1, 2, 1))
+>>> SERVER = (COIN, None, 2, 2, 2, (("go",),))
+>>> ASK = ("request", (1,), 1, (), None, None, (3,))
+>>> [is_server(SERVER), need(SERVER, ASK), begun(SERVER, ((0, ASK),)), stepped_once(SERVER, ((0, ASK),), begun(SERVER, ((0, ASK),)))]
+[True, 1, (0, (2, (None, None), ()), (), ()), (1, (2, (((1, (1,)),), None), ((0, (0,)),)), ((0, (), 0, 0),), ())]
+>>> LONG = ("request", (1, 1), 4, (), None, None, ())
+>>> ended(SERVER, ((0, ASK), (0, LONG), (1, ASK)))
+(3, ((0, ((2,), 'most')), (1, ('refused',)), (2, ((2,), 'most'))))
+"""
+
 
 class Examples(unittest.TestCase):
 
@@ -39,6 +75,15 @@ class Examples(unittest.TestCase):
 
     def test_models(self):
         self.check(MODELS, "models", 6)
+
+    def test_writer(self):
+        self.check(WRITER, "writer", 6)
+
+    def test_pages(self):
+        self.check(PAGES, "pages", 6)
+
+    def test_servers(self):
+        self.check(SERVERS, "servers", 7)
 
 
 if __name__ == "__main__":
