@@ -2,8 +2,8 @@
 
 from draftward.errors import BadAnswer, BadGrammar, BadRequest, BadSize, BadText, NoFit
 from draftward.drafts import is_drafting_for, need_answer_to_go_on, need_drafting, played_round
-from draftward.kinds import are_open_tokens, are_small_letters, are_tokens, is_ascending, is_integer_from, is_tape
-from draftward.kinds import is_token, is_tuple_of
+from draftward.kinds import are_open_tokens, are_small_letters, is_ascending, is_integer_from, is_number_below
+from draftward.kinds import is_tape, is_tuple_of
 from draftward.needs import is_prompt, need_model, need_number, need_prompt, need_settings, need_tape
 from draftward.needs import need_vocabulary
 from draftward.rounds import Rounds, played_out
@@ -20,13 +20,13 @@ def is_grammar(thing):
     if not is_tuple_of(thing, 5) or thing[0] != "grammar":
         return False
     _, states, start, finals, moves = thing
-    if not (is_integer_from(states, 1) and is_token(start, states)):
+    if not (is_integer_from(states, 1) and is_number_below(start, states)):
         return False
-    if not are_tokens(finals, states) or not is_ascending(finals):
+    if not isinstance(finals, tuple) or not all(is_number_below(state, states) for state in finals):
         return False
     if not isinstance(moves, tuple) or not all(_is_move(move, states) for move in moves):
         return False
-    return is_ascending([(source, letter) for source, letter, _ in moves])
+    return is_ascending(finals) and is_ascending([(source, letter) for source, letter, _ in moves])
 
 
 def state_after(grammar, text):
@@ -163,6 +163,6 @@ def _is_move(thing, states):
     if not is_tuple_of(thing, 3):
         return False
     source, letter, target = thing
-    if not (is_token(source, states) and is_token(target, states)):
+    if not (is_number_below(source, states) and is_number_below(target, states)):
         return False
     return are_small_letters(letter) and len(letter) == 1

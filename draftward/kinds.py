@@ -11,9 +11,14 @@ def is_integer_from(thing, least):
     return is_integer(thing) and thing >= least
 
 
+def is_number_below(thing, many):
+    """Tell whether thing is one of so many numbers, from 0 on."""
+    return is_integer(thing) and 0 <= thing < many
+
+
 def is_token(thing, many):
     """Tell whether thing is one of so many tokens, which are numbered from 0."""
-    return is_integer(thing) and 0 <= thing < many
+    return is_number_below(thing, many)
 
 
 def are_tokens(thing, many):

@@ -1,6 +1,6 @@
 """Pools of pages: their form, and their changes for values that are known to be right."""
 
-from draftward.kinds import is_ascending, is_integer_from, is_token, is_tuple_of
+from draftward.kinds import is_ascending, is_integer_from, is_number_below, is_token, is_tuple_of
 from draftward.models import is_row, rows_after
 
 
@@ -133,7 +133,7 @@ def _is_list(places, pages, thing):
     number, numbers = thing
     if not is_integer_from(number, 0) or not isinstance(numbers, tuple):
         return False
-    if not all(is_token(at, len(pages)) and pages[at] is not None for at in numbers):
+    if not all(is_number_below(at, len(pages)) and pages[at] is not None for at in numbers):
         return False
     return len(set(numbers)) == len(numbers) and all(len(pages[at]) == places for at in numbers[:-1])
 

@@ -2,7 +2,7 @@
 
 from draftward.errors import BadArrivals, BadRequest, BadServer, BadStanding
 from draftward.grammars import is_fitting_request
-from draftward.kinds import is_ascending, is_integer_from, is_token, is_tuple_of, same
+from draftward.kinds import is_ascending, is_integer_from, is_number_below, is_tuple_of, same
 from draftward.models import is_model
 from draftward.pools import has_true_rows, is_pool_of, pairs_of
 from draftward.runs import Asked, Run, pages_needed
@@ -129,13 +129,13 @@ def _are_active(asked, thing):
 
 
 def _is_active(asked, thing):
-    if not is_tuple_of(thing, 4) or not is_token(thing[0], len(asked)):
+    if not is_tuple_of(thing, 4) or not is_number_below(thing[0], len(asked)):
         return False
     number, answer, used, rounds = thing
     if asked[number].refused:
         return False
     before = asked[number].before_rounds()
-    return is_token(rounds, len(before)) and same(before[rounds], (answer, used))
+    return is_number_below(rounds, len(before)) and same(before[rounds], (answer, used))
 
 
 def _are_outcomes(asked, thing):
@@ -145,7 +145,7 @@ def _are_outcomes(asked, thing):
 
 
 def _is_outcome_of(asked, thing):
-    if not is_tuple_of(thing, 2) or not is_token(thing[0], len(asked)):
+    if not is_tuple_of(thing, 2) or not is_number_below(thing[0], len(asked)):
         return False
     return same(asked[thing[0]].outcome(), thing[1])
 

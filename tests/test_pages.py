@@ -310,6 +310,17 @@ class Others(Case):
                 self.fails(BadRequest, number, function, LAST, SHARED, number, **more)
             self.same(function(**more, number=9, pool=SHARED, model=LAST), function(LAST, SHARED, 9, *more.values()))
 
+    def test_a_bool_is_no_number_of_a_request(self):
+        pool = (2, (pairs(1), pairs(2)), ((0, (0,)), (1, (1,))))
+        for function, more in LISTED:
+            if function is not copied:
+                self.assertNotEqual(function(LAST, pool, 0, *more.values()), function(LAST, pool, 1, *more.values()))
+            for number in (True, False):
+                self.fails(BadRequest, number, function, LAST, pool, number, *more.values())
+        for number in (True, False):
+            self.fails(BadRequest, number, joined, LAST, pool, number, (1,))
+            self.fails(BadRequest, number, copied, LAST, pool, 0, number)
+
     def test_errors_of_functions_without_a_number(self):
         for function, more in ((is_true, ()), (free_pages, ()), (joined, (None, None))):
             for model in (*ODD, list(LAST)):
