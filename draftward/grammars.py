@@ -1,15 +1,16 @@
 """Answers that are bound by grammars, and requests."""
 
 from draftward.errors import BadAnswer, BadGrammar, BadRequest, BadSize, BadText, NoFit
-from draftward.drafts import is_drafting_for, need_answer_to_go_on, need_drafting, played_round
+from draftward.drafts import is_drafting_for, need_answer_to_go_on, need_drafting, played_round, written
 from draftward.kinds import are_open_tokens, are_small_letters, is_ascending, is_integer_from, is_number_below
-from draftward.kinds import is_tape, is_tuple_of
+from draftward.kinds import is_tape, is_tuple_of, same
 from draftward.needs import is_prompt, need_model, need_number, need_prompt, need_settings, need_tape
 from draftward.needs import need_vocabulary
-from draftward.rounds import Rounds, played_out
+from draftward.rounds import Rounds
 from draftward.settings import are_steps
 from draftward.tokens import size
-from draftward.weights import BoundWeights, PlainWeights, reached_state
+from draftward.weights import BoundWeights, MaskWeights, PlainWeights, fraction, reached_state
+from draftward.writer import chances_by, written_by
 
 MOST_TOKENS = 40
 MOST_ANSWERS = 200
@@ -40,20 +41,45 @@ def state_after(grammar, text):
 def ending(model, settings, vocabulary, grammar, prompt, most, answer):
     """Return the chance that the plain writer comes from the answer to an outcome that fits."""
     _need_bound_asking(model, settings, vocabulary, grammar, prompt, most)
-    _need_size(model, vocabulary)
+    bound = _bound_for(model, settings, vocabulary, grammar, prompt, most)
     if not are_open_tokens(answer, model[1]) or len(answer) > most:
         raise BadAnswer(answer)
-    return BoundWeights(PlainWeights(model, settings, prompt), vocabulary, grammar, most).ending(answer)
+    return bound.ending(answer)
 
 
 def bound_weights(model, settings, vocabulary, grammar, prompt, most, answer):
     """Return the bound weights after the answer."""
     _need_bound_asking(model, settings, vocabulary, grammar, prompt, most)
-    _need_size(model, vocabulary)
+    bound = _bound_for(model, settings, vocabulary, grammar, prompt, most)
     need_answer_to_go_on(model, most, answer)
-    bound = BoundWeights(PlainWeights(model, settings, prompt), vocabulary, grammar, most)
     _need_fit(bound, answer)
     return bound.after(answer)
+
+
+def mask_weights(model, settings, vocabulary, grammar, prompt, most, answer):
+    """Return the next weights after the answer of those tokens alone that can still lead to an outcome that fits."""
+    _need_bound_asking(model, settings, vocabulary, grammar, prompt, most)
+    bound = _bound_for(model, settings, vocabulary, grammar, prompt, most)
+    need_answer_to_go_on(model, most, answer)
+    _need_fit(bound, answer)
+    return MaskWeights(bound).after(answer)
+
+
+def write_bound(model, settings, vocabulary, grammar, prompt, most, drafting, tape):
+    """Return what write_drafted returns, but with the bound weights."""
+    _need_bound_asking(model, settings, vocabulary, grammar, prompt, most)
+    need_drafting(model, drafting)
+    need_tape(tape)
+    bound = _fitting_for(model, settings, vocabulary, grammar, prompt, most)
+    return written(Rounds(bound, drafting, prompt, most), tape)
+
+
+def write_masked(model, settings, vocabulary, grammar, prompt, most, tape):
+    """Return the answer of the masked writer, the reason why it ends, and the number of draws."""
+    _need_bound_asking(model, settings, vocabulary, grammar, prompt, most)
+    need_tape(tape)
+    bound = _fitting_for(model, settings, vocabulary, grammar, prompt, most)
+    return written_by(MaskWeights(bound), most, tape)
 
 
 def round_bound(model, settings, vocabulary, grammar, prompt, most, drafting, answer, tape, used, number):
@@ -64,11 +90,34 @@ def round_bound(model, settings, vocabulary, grammar, prompt, most, drafting, an
     need_tape(tape)
     need_number(used, 0)
     need_number(number, 0)
-    _need_size(model, vocabulary)
-    bound = BoundWeights(PlainWeights(model, settings, prompt), vocabulary, grammar, most)
-    _need_fit(bound, ())
+    bound = _fitting_for(model, settings, vocabulary, grammar, prompt, most)
     _need_fit(bound, answer)
     return played_round(Rounds(bound, drafting, prompt, most), answer, tape, used, number)
+
+
+def bound_chances(model, settings, vocabulary, grammar, prompt, most):
+    """Return the pairs of the outcomes of the bound writer and their chances, in ascending order."""
+    _need_bound_asking(model, settings, vocabulary, grammar, prompt, most)
+    return chances_by(_fitting_for(model, settings, vocabulary, grammar, prompt, most), most)
+
+
+def masked_chances(model, settings, vocabulary, grammar, prompt, most):
+    """Return the pairs of the outcomes of the masked writer and their chances, in ascending order."""
+    _need_bound_asking(model, settings, vocabulary, grammar, prompt, most)
+    return chances_by(MaskWeights(_fitting_for(model, settings, vocabulary, grammar, prompt, most)), most)
+
+
+def judge_mask(model, settings, vocabulary, grammar, prompt, most):
+    """Return the certificate that tells whether the masked writer has the chances of the bound writer."""
+    _need_bound_asking(model, settings, vocabulary, grammar, prompt, most)
+    return _mask_certificate(_fitting_for(model, settings, vocabulary, grammar, prompt, most))
+
+
+def mask_holds(model, settings, vocabulary, grammar, prompt, most, thing):
+    """Tell whether any value is the certificate for the mask."""
+    _need_bound_asking(model, settings, vocabulary, grammar, prompt, most)
+    bound = _bound_for(model, settings, vocabulary, grammar, prompt, most)
+    return bound.ending(()) != (0, 1) and same(_mask_certificate(bound), thing)
 
 
 def is_request(model, vocabulary, thing):
@@ -84,8 +133,7 @@ def alone(model, vocabulary, request):
     _need_vocabulary_or_none(vocabulary)
     if not is_fitting_request(model, vocabulary, request):
         raise BadRequest(request)
-    before, (answer, reason), used = played_out(rounds_for(model, vocabulary, request), request[6])
-    return (answer, reason, used, len(before))
+    return written(rounds_for(model, vocabulary, request), request[6])
 
 
 def is_fitting_request(model, vocabulary, thing):
@@ -139,6 +187,37 @@ def _need_bound_asking(model, settings, vocabulary, grammar, prompt, most):
     need_number(most, 0)
 
 
+def _bound_for(model, settings, vocabulary, grammar, prompt, most):
+    """Return the bound weights for these values, each of them right, or raise BadSize."""
+    if size(vocabulary) != model[1]:
+        raise BadSize(vocabulary)
+    return BoundWeights(PlainWeights(model, settings, prompt), vocabulary, grammar, most)
+
+
+def _fitting_for(model, settings, vocabulary, grammar, prompt, most):
+    """Return the bound weights for these values, each of them right, or raise BadSize or NoFit."""
+    bound = _bound_for(model, settings, vocabulary, grammar, prompt, most)
+    _need_fit(bound, ())
+    return bound
+
+
+def _mask_certificate(bound):
+    """Return the certificate for the mask, for bound weights with an ending of () that is not 0."""
+    masked = dict(chances_by(MaskWeights(bound), bound.most))
+    one = None
+    quotient = None
+    for outcome, (n, d) in chances_by(bound, bound.most):
+        # The bound chance is the plain one times a number that is the same for all, so it tells the same.
+        n_masked, d_masked = masked[outcome]
+        found = fraction(n_masked * d, d_masked * n)
+        if one is None:
+            one = outcome
+            quotient = found
+        elif found != quotient:
+            return ("unlike", one, outcome)
+    return ("exact",)
+
+
 def _need_vocabulary_or_none(vocabulary):
     if vocabulary is not None:
         need_vocabulary(vocabulary)
@@ -147,11 +226,6 @@ def _need_vocabulary_or_none(vocabulary):
 def _need_grammar(grammar):
     if not is_grammar(grammar):
         raise BadGrammar(grammar)
-
-
-def _need_size(model, vocabulary):
-    if size(vocabulary) != model[1]:
-        raise BadSize(vocabulary)
 
 
 def _need_fit(bound, answer):

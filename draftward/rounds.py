@@ -102,7 +102,7 @@ def played_out(rounds, tape):
     reader = TapeReader(tape, 0)
     before = []
     answer = ()
-    reason = None
+    reason = "most" if rounds.most == 0 else None
     while reason is None:
         before.append((answer, reader.used))
         settled, reason = rounds.play(answer, len(before) - 1, reader)

@@ -42,6 +42,8 @@ class Run:
         self.step, self.pool, active, outcomes = standing
         self.active = list(active)
         self.outcomes = dict(outcomes)
+        # What happened in the last step, in order: tuples as in a trace, those of rounds with what is used then.
+        self.events = []
 
     def standing(self):
         """Return the standing that is reached."""
@@ -51,19 +53,26 @@ class Run:
         """Return the pairs of the numbers and the outcomes that are there, in ascending order."""
         return tuple(sorted(self.outcomes.items()))
 
+    def is_over(self):
+        """Tell whether all requests have outcomes."""
+        return len(self.outcomes) == len(self.asked)
+
     def go_on(self):
-        """Do one step."""
-        self._admit()
+        """Do one step, and return the list of what happens in it."""
+        self.events = []
+        self.admit()
         still = []
         # The positions are those at the beginning: a request that ends moves no other one to another word.
         for at, row in enumerate(self.active):
-            after = self._served(row, self._word(at))
+            after = self._served(row, self.word_at(at))
             if after is not None:
                 still.append(after)
         self.active = still
         self.step += 1
+        return self.events
 
-    def _admit(self):
+    def admit(self):
+        """Do what a step begins with: refuse and admit requests in their turn."""
         _, _, many, _, _, _ = self.server
         active = [row[0] for row in self.active]
         free = many - sum([self.asked[number].needed for number in active])
@@ -72,14 +81,16 @@ class Run:
                 continue
             if asked.refused:
                 self.outcomes[number] = ("refused",)
+                self.events.append(("refused", number))
             elif asked.needed <= free:
                 free -= asked.needed
                 self.active.append((number, (), 0, 0))
                 self.pool = with_joined(self.pool, number, asked.prompt)
+                self.events.append(("admitted", number, len(pairs_of(self.pool, number))))
             else:
                 return
 
-    def _word(self, at):
+    def word_at(self, at):
         """Return the word for the active request at the position."""
         # The first one always goes on, so that every run comes to an end.
         if at == 0:
@@ -91,9 +102,12 @@ class Run:
     def _served(self, row, word):
         """Do what the word says for the active request: return it as it is then, or None if it ended."""
         number, answer, _, _ = row
+        if word == "wait":
+            self.events.append(("waits", number))
+            return row
         if word == "lose":
             self.pool = with_list(self.pool, number, ())
-        if word != "go":
+            self.events.append(("loses", number))
             return row
         tokens = self.asked[number].prompt + answer
         if len(pairs_of(self.pool, number)) < len(tokens):
@@ -105,16 +119,19 @@ class Run:
         """Work out the next rows of the tokens that the request does not keep, as many as the chunk allows."""
         model, _, _, _, chunk, _ = self.server
         rows = [row for _, row in pairs_of(self.pool, number)]
-        for token in tokens[len(rows):len(rows) + chunk]:
+        lacking = tokens[len(rows):len(rows) + chunk]
+        for token in lacking:
             row, _ = next_row(model, rows, token)
             rows.append(row)
             self.pool = with_added(self.pool, number, (token, row))
+        self.events.append(("works", number, lacking))
 
     def _round(self, row):
         number, answer, used, many = row
         asked = self.asked[number]
         reader = TapeReader(asked.tape, used)
         settled, reason = asked.rounds.play(answer, many, reader)
+        self.events.append(("round", number, settled, reason, reader.used))
         answer = answer + settled
         if reason is None:
             return (number, answer, reader.used, many + 1)

@@ -39,45 +39,59 @@ def begun(server, arrivals):
 
 def need(server, request):
     """Return how many pages the request may need."""
-    _need_server(server)
-    if not is_fitting_request(server[0], server[1], request):
-        raise BadRequest(request)
+    need_request(server, request)
     return pages_needed(request, server[3])
 
 
 def stepped_once(server, arrivals, standing):
     """Return the standing after a step."""
-    _need_server_and_arrivals(server, arrivals)
-    asked = _all_asked(server, arrivals)
-    if not _is_standing_of(server, asked, standing):
-        raise BadStanding(standing)
-    run = Run(server, asked, standing)
+    run = run_from(server, arrivals, standing)
     run.go_on()
     return run.standing()
 
 
 def is_standing(server, arrivals, thing):
     """Tell whether any value is a standing of the server with the arrivals."""
-    _need_server_and_arrivals(server, arrivals)
-    return _is_standing_of(server, _all_asked(server, arrivals), thing)
+    return _is_standing_of(server, all_asked(server, arrivals), thing)
 
 
 def ended(server, arrivals):
     """Return how many steps there are until all arrivals have outcomes, and the outcomes."""
-    _need_server_and_arrivals(server, arrivals)
-    run = Run(server, _all_asked(server, arrivals), _standing_at_first(server))
-    while len(run.outcomes) < len(arrivals):
+    run = new_run(server, arrivals)
+    while not run.is_over():
         run.go_on()
     return (run.step, run.outcomes_so_far())
+
+
+def all_asked(server, arrivals):
+    """Return what is asked of the server by each arrival, or raise the error of the first value that is wrong."""
+    _need_server_and_arrivals(server, arrivals)
+    return [Asked(server, step, request) for step, request in arrivals]
+
+
+def new_run(server, arrivals):
+    """Return the run from the beginning, or raise the error of the first value that is wrong."""
+    return Run(server, all_asked(server, arrivals), _standing_at_first(server))
+
+
+def run_from(server, arrivals, standing):
+    """Return the run that goes on from the standing, or raise the error of the first value that is wrong."""
+    asked = all_asked(server, arrivals)
+    if not _is_standing_of(server, asked, standing):
+        raise BadStanding(standing)
+    return Run(server, asked, standing)
+
+
+def need_request(server, request):
+    """Raise BadServer or BadRequest if the values are not a server and a request of it."""
+    _need_server(server)
+    if not is_fitting_request(server[0], server[1], request):
+        raise BadRequest(request)
 
 
 def _standing_at_first(server):
     _, _, many, places, _, _ = server
     return (0, (places, (None,) * many, ()), (), ())
-
-
-def _all_asked(server, arrivals):
-    return [Asked(server, step, request) for step, request in arrivals]
 
 
 def _need_server(server):

@@ -1,4 +1,4 @@
-"""The weights by which answers are drawn: plain ones, and those that are bound by a grammar.
+"""The weights by which answers are drawn: plain ones, and those that are bound or masked by a grammar.
 
 Each object belongs to one prompt and remembers what it worked out, because rounds, and all outcomes of a request, come
 back to the same answers again and again.
@@ -55,7 +55,7 @@ class BoundWeights:
 
     def after(self, answer):
         """Return the bound weights after the answer, which has fewer than most tokens and an ending that is not 0."""
-        numbers, _ = _over_one(self._parts(answer))
+        numbers, _ = over_one(self._parts(answer))
         common = 0
         for number in numbers:
             common = gcd(common, number)
@@ -73,7 +73,7 @@ class BoundWeights:
             return (0, 1)
         if len(answer) == self.most:
             return (1, 1) if state in self.grammar[3] else (0, 1)
-        numbers, whole = _over_one(self._parts(answer))
+        numbers, whole = over_one(self._parts(answer))
         return fraction(sum(numbers), whole * sum(self.plain.after(answer)))
 
     def _parts(self, answer):
@@ -91,6 +91,18 @@ class BoundWeights:
         return reached_state(self.grammar, "".join([self.pieces[token] for token in answer]))
 
 
+class MaskWeights:
+    """The next weights of those tokens alone whose bound weights are not 0."""
+
+    def __init__(self, bound):
+        self.bound = bound
+
+    def after(self, answer):
+        """Return the mask weights after the answer, which has fewer than most tokens and an ending that is not 0."""
+        weights = self.bound.plain.after(answer)
+        return tuple([weight if least > 0 else 0 for weight, least in zip(weights, self.bound.after(answer))])
+
+
 def reached_state(grammar, text):
     """Return the state to which the text leads from the start of the grammar, or None."""
     _, _, state, _, moves = grammar
@@ -106,7 +118,17 @@ def fraction(n, d):
     return (n // common, d // common)
 
 
-def _over_one(quotients):
+def plus(one, other):
+    """Return the sum of two fractions."""
+    return fraction(one[0] * other[1] + other[0] * one[1], one[1] * other[1])
+
+
+def times(one, other):
+    """Return the product of two fractions."""
+    return fraction(one[0] * other[0], one[1] * other[1])
+
+
+def over_one(quotients):
     """Return the numerators of the quotients over their least common denominator, and this denominator."""
     whole = 1
     for _, d in quotients:

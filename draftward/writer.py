@@ -38,15 +38,7 @@ def write_plain(model, settings, prompt, most, tape):
     """Return the answer of the plain writer, the reason why it ends, and the number of draws."""
     _need_asking(model, settings, prompt, most)
     need_tape(tape)
-    weights = PlainWeights(model, settings, prompt)
-    reader = TapeReader(tape, 0)
-    answer = ()
-    while len(answer) < most:
-        token = reader.token_by(weights.after(answer))
-        if token == 0:
-            return (answer, "end", reader.used)
-        answer = (*answer, token)
-    return (answer, "most", reader.used)
+    return written_by(PlainWeights(model, settings, prompt), most, tape)
 
 
 def plain_chance(model, settings, prompt, most, outcome):
@@ -70,6 +62,18 @@ def plain_chances(model, settings, prompt, most):
     """Return the pairs of all outcomes that can come and their chances, in ascending order."""
     _need_asking(model, settings, prompt, most)
     return chances_by(PlainWeights(model, settings, prompt), most)
+
+
+def written_by(weights, most, tape):
+    """Return what write_plain returns, if the weights are those of each draw."""
+    reader = TapeReader(tape, 0)
+    answer = ()
+    while len(answer) < most:
+        token = reader.token_by(weights.after(answer))
+        if token == 0:
+            return (answer, "end", reader.used)
+        answer = (*answer, token)
+    return (answer, "most", reader.used)
 
 
 def chances_by(weights, most):

@@ -1,4 +1,4 @@
-"""What the document promises of its parts 3 to 7, worked out in other words than the program's."""
+"""What the document promises of its parts 3 to 8, worked out in other words than the program's."""
 
 import functools
 import itertools
@@ -482,21 +482,27 @@ def outcome_of(server, request):
     return course(server[0], server[1], request)[1][:2]
 
 
-def step(server, arrivals, standing):
-    """Return the standing after a step [5.4], worked out with a pool that changes in place."""
+def step(server, arrivals, standing, told=None):
+    """Return the standing after a step [5.4], worked out with a pool that changes in place.
+
+    What happens is appended to told, as in a trace [12.2], for rounds with what is used then.
+    """
     model, vocabulary, many, _, chunk, table = server
+    told = [] if told is None else told
     now, pool, active, done = standing
     pool, active, done = Pool(pool), list(active), dict(done)
     for number, (arrived, request) in enumerate(arrivals):
         if arrived <= now and number not in done and number not in [row[0] for row in active]:
             if need(server, request) > many:
                 done[number] = ("refused",)
+                told.append(("refused", number))
                 continue
             if sum(need(server, arrivals[k][1]) for k in [number, *[row[0] for row in active]]) > many:
                 break
             active.append((number, (), 0, 0))
             pool.join(number, request[1])
             pool.free()
+            told.append(("admitted", number, len(pool.kept(number))))
     words = table[now % len(table)]
     for at, (number, answer, used, rounds) in enumerate(list(active)):
         request = arrivals[number][1]
@@ -505,13 +511,18 @@ def step(server, arrivals, standing):
         begin = len(pool.kept(number))
         if word == "lose":
             pool.lose(number)
-        elif word == "go" and begin < len(tokens):
+            told.append(("loses", number))
+        elif word == "wait":
+            told.append(("waits", number))
+        elif begin < len(tokens):
             for k in range(begin, min(begin + chunk, len(tokens))):
                 assert pool.add(number, tokens[k], rows_of(model, tokens[:k + 1])[-1])
-        elif word == "go":
+            told.append(("works", number, tokens[begin:begin + chunk]))
+        else:
             draws = Draws(request[6], used)
             settled, reason = round_of(*writers_of(model, vocabulary, request), request[2], answer, draws, rounds)
             active[at] = (number, answer + settled, draws.used, rounds + 1)
+            told.append(("round", number, settled, reason, draws.used))
             if reason is not None:
                 done[number] = (answer + settled, reason)
                 active[at] = None
@@ -519,3 +530,32 @@ def step(server, arrivals, standing):
         pool.free()
     active = tuple(row for row in active if row is not None)
     return now + 1, pool.value(), active, tuple(sorted(done.items()))
+
+
+def begun(server):
+    return 0, (server[3], (None,) * server[2], ()), (), ()
+
+
+def run(server, arrivals, standing=None):
+    """Return the last standing, and what happened in each step, until all arrivals have outcomes."""
+    standing = standing or begun(server)
+    steps = []
+    while len(standing[3]) < len(arrivals):
+        steps.append([])
+        standing = step(server, arrivals, standing, steps[-1])
+    return standing, steps
+
+
+def most_steps_of(server, request):
+    """Return the bound of a request [8.1]; 0 if it is refused."""
+    if need(server, request) > server[2]:
+        return 0
+    return math.ceil(Fraction(len(request[1]) + request[2], server[4])) + 2 * request[2]
+
+
+def most_steps(server, arrivals, standing=None):
+    """Return after how many steps from the standing, or the beginning, all outcomes are there at the latest."""
+    now, _, _, done = standing or begun(server)
+    last = max([at for at, _ in arrivals], default=0)
+    lacking = [request for number, (_, request) in enumerate(arrivals) if number not in dict(done)]
+    return max(0, last - now) + sum(most_steps_of(server, request) for request in lacking) + 1

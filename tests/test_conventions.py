@@ -4,7 +4,7 @@ import copy
 import inspect
 import unittest
 
-from draftward import drafts, grammars, models, pages, servers, tokens, writer
+from draftward import drafts, grammars, models, pages, schedules, servers, tokens, writer
 from draftward.errors import DraftError, NoFit
 from samples import ODD, Case, spoiled
 
@@ -20,6 +20,7 @@ STEPS = (("least", 1), ("ban", (0,)))
 ROW = (COIN, (("power", 2),), (("row", 2), ("several", 1)))
 ASK = ("request", (1,), 2, STEPS, ROW, ENDS, (3, 1))
 ASKING = {"model": COIN, "settings": STEPS, "prompt": (1, 2), "most": 2}
+DRAFTED = {"model": COIN, "settings": STEPS, "drafting": ROW, "prompt": (1, 2), "most": 2}
 BOUND = {"model": COIN, "settings": (), "vocabulary": LETTERS, "grammar": ENDS, "prompt": (1,), "most": 2}
 ROUND = {"answer": (1,), "tape": (1, 2, 0), "used": 1, "number": 0}
 POOL = (2, (((1, (1,)), (2, (2,))), ((1, (1,)),), None), ((0, (0, 1)), (4, (0,))))
@@ -78,18 +79,38 @@ INTERFACE = {
     drafts: (
         ("is_drafting", {"model": COIN, "thing": ROW}),
         ("rest", {"weights": (1, 2, 1), "draft_weights": (1, 1, 1)}),
-        ("round_of", {"model": COIN, "settings": STEPS, "drafting": ROW, "prompt": (1,), "most": 3, **ROUND}),
+        ("gain", {"model": COIN, "settings": STEPS, "drafting": ROW, "tokens": (1, 2), "answered": 1}),
+        ("round_of", {**DRAFTED, "most": 3, **ROUND}),
+        ("write_drafted", {**DRAFTED, "tape": (6, 7)}),
+        ("drafted_chances", DRAFTED),
+        ("mean_rounds", DRAFTED),
     ),
     grammars: (
         ("is_grammar", {"thing": ENDS}),
         ("state_after", {"grammar": ENDS, "text": "aab"}),
         ("ending", {**BOUND, "answer": (1,)}),
         ("bound_weights", {**BOUND, "answer": (1,)}),
+        ("mask_weights", {**BOUND, "answer": (1,)}),
+        ("write_bound", {**BOUND, "drafting": ROW, "tape": (1, 2, 0)}),
+        ("write_masked", {**BOUND, "tape": (1, 2, 0)}),
         ("round_bound", {**BOUND, "drafting": ROW, **ROUND}),
+        ("bound_chances", BOUND),
+        ("masked_chances", BOUND),
+        ("judge_mask", BOUND),
+        ("mask_holds", {**BOUND, "thing": ("exact",)}),
         ("is_request", {"model": COIN, "vocabulary": LETTERS, "thing": ASK}),
         ("alone", {"model": COIN, "vocabulary": LETTERS, "request": ASK}),
     ),
+    schedules: (
+        ("bound_of", {"server": SERVER, "request": ASK}),
+        ("bound", {"server": SERVER, "arrivals": ARRIVALS}),
+        ("work", {"server": SERVER, "arrivals": ARRIVALS}),
+        ("ages", {"server": SERVER, "arrivals": ARRIVALS, "standing": STANDING}),
+        ("judge_word", {"server": SERVER, "arrivals": ARRIVALS, "standing": STANDING, "number": 0}),
+    ),
 }
+FITTING = (grammars.bound_weights, grammars.mask_weights, grammars.write_bound, grammars.write_masked,
+           grammars.round_bound, grammars.bound_chances, grammars.masked_chances, grammars.judge_mask)
 CALLS = [(getattr(module, name), given) for module, rows in INTERFACE.items() for name, given in rows]
 
 
@@ -153,6 +174,8 @@ class Conventions(Case):
                     before = repr(args)
                     try:
                         function(**args)
+                    except NoFit:
+                        self.assertIn(function, FITTING)
                     except DraftError as error:
                         # An argument that is right alone may make one behind it wrong.
                         self.assertIn(id(error.thing), [id(value) for value in args.values()])
@@ -166,21 +189,21 @@ class Conventions(Case):
                     try:
                         self.assertTrue(are_plain(function(**args)))
                     except NoFit:
-                        self.assertIn(function, (grammars.bound_weights, grammars.round_bound))
+                        self.assertIn(function, FITTING)
                     except DraftError as error:
                         # The other arguments may be wrong for what is a vocabulary or a model after all.
                         self.assertIn(id(error.thing), [id(value) for value in args.values()])
 
     def test_is_functions_return_true_or_false(self):
         for function, given in CALLS:
-            if function.__name__.startswith(("is_", "are_")):
+            if function.__name__.startswith(("is_", "are_")) or function.__name__.endswith("_holds"):
                 for thing in (*ODD, *spoiled(given.get("thing"))):
                     told = function(**{**given, "thing": thing}) if "thing" in given else function(**given)
                     self.assertIn(repr(told), ("True", "False"))
 
     def test_certificates_are_tuples_of_the_stated_length(self):
         for function, given in CALLS:
-            if function.__name__.startswith("judge_"):
+            if function.__name__.startswith("judge_") and "thing" in given:
                 for thing in (*ODD, *spoiled(given["thing"])):
                     told = function(**{**given, "thing": thing})
                     self.assertIn((type(told), len(told), told[0]),

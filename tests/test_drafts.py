@@ -1,4 +1,4 @@
-"""Draftings and rounds, as far as servers need them [6.1] to [6.4]."""
+"""Draftings, rests and single rounds [6.1] to [6.4]."""
 
 import itertools
 import random

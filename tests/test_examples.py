@@ -59,6 +59,41 @@ SERVERS = """
 (3, ((0, ((2,), 'most')), (1, ('refused',)), (2, ((2,), 'most'))))
 """
 
+DRAFTS = """
+>>> from draftward.drafts import drafted_chances, gain, mean_rounds, rest, round_of, write_drafted
+>>> COIN = ("window", 3, 0, (), (1, 2, 1))
+>>> EVEN = ("window", 3, 0, (), (1, 1, 1))
+>>> ROW = (EVEN, (), (("row", 2),))
+>>> [rest((1, 2, 1), (1, 1, 1)), gain(COIN, (), ROW, (1,), 0), drafted_chances(COIN, (), ROW, (1,), 1)]
+[(0, 2, 0), (5, 6), ((((), 'end'), (1, 4)), (((1,), 'most'), (1, 2)), (((2,), 'most'), (1, 4)))]
+>>> [round_of(COIN, (), ROW, (1,), 4, (), (1, 2, 0, 3, 0), 0, 0), round_of(COIN, (), ROW, (1,), 4, (), (1, 2, 0, 2, 3), 0, 0), write_drafted(COIN, (), None, (1,), 2, (3, 1)), mean_rounds(COIN, (), None, (1,), 1)]
+[((1, 1), None, 5), ((1, 2, 2), None, 5), ((2, 1), 'most', 2, 2), (1, 1)]
+"""
+
+GRAMMARS = """
+>>> from draftward.grammars import bound_chances, bound_weights, ending, judge_mask, mask_weights, masked_chances, state_after
+>>> COIN = ("window", 3, 0, (), (1, 2, 1))
+>>> LETTERS = ("vocabulary", "ab", ())
+>>> ENDS = ("grammar", 2, 0, (1,), ((0, "a", 0), (0, "b", 1)))
+>>> [state_after(ENDS, "aab"), state_after(ENDS, "ba"), ending(COIN, (), LETTERS, ENDS, (1,), 2, (1,)), ending(COIN, (), LETTERS, ENDS, (1,), 2, ())]
+[1, None, (1, 4), (3, 16)]
+>>> [bound_weights(COIN, (), LETTERS, ENDS, (1,), 2, ()), mask_weights(COIN, (), LETTERS, ENDS, (1,), 2, ()), bound_chances(COIN, (), LETTERS, ENDS, (1,), 2)]
+[(0, 2, 1), (0, 2, 1), ((((1, 2), 'most'), (2, 3)), (((2,), 'end'), (1, 3)))]
+>>> [masked_chances(COIN, (), LETTERS, ENDS, (1,), 2), judge_mask(COIN, (), LETTERS, ENDS, (1,), 2), judge_mask(COIN, (), LETTERS, ENDS, (1,), 3)]
+[((((1, 2), 'most'), (2, 3)), (((2,), 'end'), (1, 3))), ('exact',), ('unlike', ((1, 1, 2), 'most'), ((2,), 'end'))]
+"""
+
+SCHEDULES = """
+>>> from draftward.schedules import bound, bound_of, judge_word, work
+>>> from draftward.servers import begun
+>>> COIN = ("window", 3, 0, (), (1, 2, 1))
+>>> SERVER = (COIN, None, 2, 2, 2, (("wait", "lose"), ("go",)))
+>>> ASK = ("request", (1,), 1, (), None, None, (3,))
+>>> TWO = ((0, ASK), (0, ASK))
+>>> [bound_of(SERVER, ASK), bound(SERVER, TWO), work(SERVER, TWO), judge_word(SERVER, TWO, begun(SERVER, TWO), 0), judge_word(SERVER, TWO, begun(SERVER, TWO), 1)]
+[3, 7, 2, 'go', 'lose']
+"""
+
 
 class Examples(unittest.TestCase):
 
@@ -84,6 +119,15 @@ class Examples(unittest.TestCase):
 
     def test_servers(self):
         self.check(SERVERS, "servers", 7)
+
+    def test_drafts(self):
+        self.check(DRAFTS, "drafts", 6)
+
+    def test_grammars(self):
+        self.check(GRAMMARS, "grammars", 7)
+
+    def test_schedules(self):
+        self.check(SCHEDULES, "schedules", 7)
 
 
 if __name__ == "__main__":

@@ -1,4 +1,4 @@
-"""Grammars, endings, bound weights and requests, as far as servers need them [7.1], [7.2], [7.3], [7.5], [7.6]."""
+"""Grammars, endings, bound weights, single bound rounds and requests [7.1], [7.2], [7.3], [7.5], [7.6]."""
 
 import itertools
 import random
