@@ -27,6 +27,18 @@ class Asked:
         """Return the outcome that the request has on every server with so many pages."""
         return ("refused",) if self.refused else self._played()[1]
 
+    def journal_rows(self):
+        """Return the list of what stands behind its number in each of its rows of a journal."""
+        if self.refused:
+            return [("refused",)]
+        before, (answer, reason), used = self._played()
+        after = [*before[1:], (answer, used)]
+        reasons = [None] * (len(before) - 1) + [reason]
+        rows = []
+        for (begin, _), (end, used_then), reason_then in zip(before, after, reasons):
+            rows.append((end[len(begin):], reason_then, used_then))
+        return rows
+
     def _played(self):
         if self.course is None:
             self.course = played_out(self.rounds, self.tape)

@@ -18,6 +18,17 @@ def applied(settings, weights, tokens, answered):
     return weights
 
 
+def power(number, e):
+    """Return the product of so many factors number."""
+    found = 1
+    while e > 0:
+        if e % 2 == 1:
+            found *= number
+        number *= number
+        e //= 2
+    return found
+
+
 def _is_step(thing, many):
     if is_tuple_of(thing, 3):
         return _is_step_of_two(thing)
@@ -42,7 +53,7 @@ def _is_step_of_two(thing):
 def _applied_step(step, weights, tokens, answered):
     word = step[0]
     if word == "power":
-        return tuple([_power(weight, step[1]) for weight in weights])
+        return tuple([power(weight, step[1]) for weight in weights])
     if word == "greatest":
         return _only(weights, _from_the_greatest(weights)[:step[1]])
     if word == "share":
@@ -52,16 +63,6 @@ def _applied_step(step, weights, tokens, answered):
     if word == "seen":
         return tuple([weight * step[1 if token in tokens else 2] for token, weight in enumerate(weights)])
     return _without(weights, (0,)) if answered < step[1] else weights
-
-
-def _power(weight, e):
-    found = 1
-    while e > 0:
-        if e % 2 == 1:
-            found *= weight
-        weight *= weight
-        e //= 2
-    return found
 
 
 def _from_the_greatest(weights):

@@ -36,14 +36,14 @@ def draw(weights, tape, used):
 
 def write_plain(model, settings, prompt, most, tape):
     """Return the answer of the plain writer, the reason why it ends, and the number of draws."""
-    _need_asking(model, settings, prompt, most)
+    need_asking(model, settings, prompt, most)
     need_tape(tape)
     return written_by(PlainWeights(model, settings, prompt), most, tape)
 
 
 def plain_chance(model, settings, prompt, most, outcome):
     """Return the chance that the plain writer comes to the outcome."""
-    _need_asking(model, settings, prompt, most)
+    need_asking(model, settings, prompt, most)
     if not _is_outcome(outcome, model[1], most):
         raise BadOutcome(outcome)
     weights = PlainWeights(model, settings, prompt)
@@ -60,7 +60,7 @@ def plain_chance(model, settings, prompt, most, outcome):
 
 def plain_chances(model, settings, prompt, most):
     """Return the pairs of all outcomes that can come and their chances, in ascending order."""
-    _need_asking(model, settings, prompt, most)
+    need_asking(model, settings, prompt, most)
     return chances_by(PlainWeights(model, settings, prompt), most)
 
 
@@ -82,15 +82,37 @@ def chances_by(weights, most):
     going = [((), (1, 1))]
     length = 0
     while going and length < most:
-        longer = []
-        for answer, chance in going:
-            ended, *continued = _continued(weights.after(answer), chance)
-            found.append(((answer, "end"), ended))
-            longer.extend([((*answer, 1 + at), after) for at, after in enumerate(continued)])
-        going = [(answer, chance) for answer, chance in longer if chance[0] > 0]
+        ended, going = drawn_on(weights, going)
+        found.extend(ended)
         length += 1
     found.extend([((answer, "most"), chance) for answer, chance in going])
-    return tuple(sorted([(outcome, chance) for outcome, chance in found if chance[0] > 0]))
+    return tuple(sorted(found))
+
+
+def drawn_on(weights, going):
+    """Return the outcomes, and the answers that go on, to which a draw after each of the answers can lead.
+
+    All stand in pairs with their chances.
+    """
+    ended = []
+    longer = []
+    for answer, (n, d) in going:
+        after = weights.after(answer)
+        whole = d * sum(after)
+        if after[0] > 0:
+            ended.append(((answer, "end"), fraction(n * after[0], whole)))
+        for token in range(1, len(after)):
+            if after[token] > 0:
+                longer.append(((*answer, token), fraction(n * after[token], whole)))
+    return (ended, longer)
+
+
+def need_asking(model, settings, prompt, most):
+    """Raise the error of the first of these values that is wrong."""
+    need_model(model)
+    need_settings(model, settings)
+    need_prompt(model, prompt)
+    need_number(most, 0)
 
 
 def need_tokens_so_far(model, tokens, answered):
@@ -101,13 +123,6 @@ def need_tokens_so_far(model, tokens, answered):
         raise BadNumber(answered)
 
 
-def _need_asking(model, settings, prompt, most):
-    need_model(model)
-    need_settings(model, settings)
-    need_prompt(model, prompt)
-    need_number(most, 0)
-
-
 def _is_outcome(thing, many, most):
     if not is_tuple_of(thing, 2):
         return False
@@ -115,10 +130,3 @@ def _is_outcome(thing, many, most):
     if not are_open_tokens(answer, many):
         return False
     return (reason == "most" and len(answer) == most) or (reason == "end" and len(answer) < most)
-
-
-def _continued(weights, chance):
-    """Return for each token the chance that it is drawn by the weights after what came with the chance."""
-    n, d = chance
-    whole = sum(weights)
-    return [fraction(n * weight, d * whole) for weight in weights]

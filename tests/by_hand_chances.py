@@ -1,6 +1,7 @@
 """What the document promises of chances in its parts 6, 7, 9 and 11, worked out in other words than the program's."""
 
 import functools
+import itertools
 import math
 from fractions import Fraction
 
@@ -169,3 +170,39 @@ def ranked(pairs):
         before = [k for k, (other, chance) in enumerate(best) if chance > worth or (chance == worth and other < thing)]
         best.insert(len(before), (thing, worth))
     return best
+
+
+def all_outcomes(after, many, most):
+    """Return all outcomes that can come with their chances, the best one first."""
+    found = [(outcome, by_hand.chance(after, outcome)) for outcome in by_hand.outcomes(many, most)]
+    return ranked([(outcome, worth) for outcome, worth in found if worth])
+
+
+def beam(after, many, most, width):
+    """Return the pair of the outcome of a beam [9.2] and its chance."""
+    going, found = [()], []
+    for length in range(most):
+        longer = []
+        for answer in going:
+            if after(answer)[0]:
+                found.append((answer, "end"))
+            longer.extend((*answer, token) for token in range(1, many) if after(answer)[token])
+        # An open answer has the chance of the draws of its tokens, as an outcome by "most" has.
+        going = [answer for answer, _ in ranked([(answer, by_hand.chance(after, (answer, "most"))) for answer in longer])]
+        going = going[:width]
+    found.extend((answer, "most") for answer in going)
+    return ranked([(outcome, by_hand.chance(after, outcome)) for outcome in found])[0]
+
+
+def counted(p, q, plan, most, base, length):
+    """Return the pairs of outcomes and numbers of tapes [11.2], tape by tape."""
+    many = {}
+    for tape in itertools.product(range(base), repeat=length):
+        draws = by_hand.Draws(tape)
+        answer, reason, number = (), "most" if most == 0 else None, 0
+        while reason is None:
+            settled, reason = by_hand.round_of(p, q, plan, most, answer, draws, number)
+            answer += settled
+            number += 1
+        many[answer, reason] = many.get((answer, reason), 0) + 1
+    return tuple(sorted(many.items()))

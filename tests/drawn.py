@@ -56,7 +56,7 @@ def some_tape(source, longest=14):
 
 
 def some_drafting(source, size):
-    plan = tuple((source.choice(("row", "several")), source.randint(1, 3)) for _ in range(source.randint(1, 2)))
+    plan = tuple((source.choice(("row", "several")), source.randint(1, 3)) for _ in range(source.randint(1, 3)))
     return (some_model(source, size), some_settings(source, size), plan)
 
 

@@ -1,11 +1,11 @@
-"""The conventions that hold for all functions of the interface [0.2], for those that are there."""
+"""The conventions that hold for all functions of the interface [0.2]."""
 
 import copy
 import inspect
 import unittest
 
-from draftward import drafts, grammars, models, pages, schedules, servers, tokens, writer
-from draftward.errors import DraftError, NoFit
+from draftward import beams, counting, drafts, grammars, journals, models, pages, schedules, servers, tokens, traces, writer
+from draftward.errors import BadLine, DraftError, NoFit
 from samples import ODD, Case, spoiled
 
 LAST = ("window", 3, 1, (((1,), (0, 1, 3)),), (1, 2, 1))
@@ -28,6 +28,9 @@ HELD = {"model": LAST, "pool": POOL, "number": 0}
 SERVER = (COIN, LETTERS, 4, 2, 1, (("go", "wait"), ("lose",)))
 ARRIVALS = ((0, ASK), (1, ("request", (1, 2), 1, (), None, None, ())))
 STANDING = (3, (2, (((1, (1,)),), None, None, None), ((0, (0,)),)), ((0, (), 0, 0),), ((1, ((), "end")),))
+
+JOURNAL = ((1, (), "end", 1),)
+TRACE = ((("admitted", 0, 0), ("works", 0, (1,))), (("admitted", 1, 0), ("waits", 1)))
 
 INTERFACE = {
     tokens: (
@@ -108,9 +111,36 @@ INTERFACE = {
         ("ages", {"server": SERVER, "arrivals": ARRIVALS, "standing": STANDING}),
         ("judge_word", {"server": SERVER, "arrivals": ARRIVALS, "standing": STANDING, "number": 0}),
     ),
+    beams: (
+        ("best_outcomes", {**ASKING, "number": 3}),
+        ("beam_outcome", {**ASKING, "width": 2}),
+        ("judge_beam", {**ASKING, "width": 1}),
+        ("beam_holds", {**ASKING, "width": 1, "thing": ("best",)}),
+    ),
+    journals: (
+        ("journal_after", {"server": SERVER, "arrivals": ARRIVALS, "steps": 3}),
+        ("is_journal", {"server": SERVER, "arrivals": ARRIVALS, "thing": JOURNAL}),
+        ("gone_on", {"server": SERVER, "arrivals": ARRIVALS, "journal": JOURNAL, "step": 2}),
+        ("shown", {"server": SERVER, "arrivals": ARRIVALS, "journal": JOURNAL}),
+    ),
+    counting: (
+        ("period", DRAFTED),
+        ("reach", DRAFTED),
+        ("counted", {**DRAFTED, "base": 2, "length": 3}),
+        ("counted_server", {"server": SERVER, "arrivals": ARRIVALS, "base": 2, "lengths": (2, 1)}),
+    ),
+    traces: (
+        ("model_text", {"model": LAST}),
+        ("vocabulary_text", {"vocabulary": PAIRS}),
+        ("read_model", {"text": "window 3 1\ndefault 1 2 1\nafter 1: 0 1 3"}),
+        ("read_vocabulary", {"text": "letters ab\nmerge 1 2"}),
+        ("trace_of", {"server": SERVER, "arrivals": ARRIVALS}),
+        ("judge_trace", {"server": SERVER, "arrivals": ARRIVALS, "thing": TRACE}),
+    ),
 }
 FITTING = (grammars.bound_weights, grammars.mask_weights, grammars.write_bound, grammars.write_masked,
            grammars.round_bound, grammars.bound_chances, grammars.masked_chances, grammars.judge_mask)
+READING = (traces.read_model, traces.read_vocabulary)
 CALLS = [(getattr(module, name), given) for module, rows in INTERFACE.items() for name, given in rows]
 
 
@@ -127,6 +157,16 @@ def are_plain(value):
 
 
 class Conventions(Case):
+
+    def check_error(self, error, function, args):
+        """Check that the error is one that the function may raise, and that it carries one of the arguments."""
+        if type(error) is NoFit:
+            self.assertIn(function, FITTING)
+        elif type(error) is BadLine:
+            self.assertIn(function, READING)
+        else:
+            # This may be a right one: what is a model or a vocabulary after all makes others wrong.
+            self.assertIn(id(error.thing), [id(value) for value in args.values()])
 
     def test_names_and_parameters(self):
         for module, rows in INTERFACE.items():
@@ -164,7 +204,10 @@ class Conventions(Case):
                 args = {**given, **{other: wrong[k % 3] for k, other in enumerate(names) if k >= at}}
                 with self.assertRaises(DraftError) as caught:
                     function(**args)
-                self.assertIs(caught.exception.thing, args[name])
+                if function in READING:
+                    self.same(vars(caught.exception), {"at": 0})
+                else:
+                    self.assertIs(caught.exception.thing, args[name])
 
     def test_no_argument_is_changed(self):
         for function, given in CALLS:
@@ -174,11 +217,8 @@ class Conventions(Case):
                     before = repr(args)
                     try:
                         function(**args)
-                    except NoFit:
-                        self.assertIn(function, FITTING)
                     except DraftError as error:
-                        # An argument that is right alone may make one behind it wrong.
-                        self.assertIn(id(error.thing), [id(value) for value in args.values()])
+                        self.check_error(error, function, args)
                     self.assertEqual(repr(args), before)
 
     def test_any_value_gives_a_result_or_an_error_of_the_list(self):
@@ -188,11 +228,8 @@ class Conventions(Case):
                     args = {**given, name: thing}
                     try:
                         self.assertTrue(are_plain(function(**args)))
-                    except NoFit:
-                        self.assertIn(function, FITTING)
                     except DraftError as error:
-                        # The other arguments may be wrong for what is a vocabulary or a model after all.
-                        self.assertIn(id(error.thing), [id(value) for value in args.values()])
+                        self.check_error(error, function, args)
 
     def test_is_functions_return_true_or_false(self):
         for function, given in CALLS:
@@ -206,8 +243,9 @@ class Conventions(Case):
             if function.__name__.startswith("judge_") and "thing" in given:
                 for thing in (*ODD, *spoiled(given["thing"])):
                     told = function(**{**given, "thing": thing})
+                    long = 3 if function is traces.judge_trace else 2
                     self.assertIn((type(told), len(told), told[0]),
-                                  ((tuple, 1, "right"), (tuple, 2, "wrong"), (tuple, 1, "none")))
+                                  ((tuple, 1, "right"), (tuple, long, "wrong"), (tuple, 1, "none")))
 
 
 if __name__ == "__main__":

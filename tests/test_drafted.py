@@ -134,6 +134,13 @@ class Writing(Case):
         tape = (1, 1, 0, 0, 3, 2, 2, 2, 3, 0, 1, 1, 1, 0, 0, 0)
         self.same(write_drafted(COIN, (("least", 8),), drafting, (1,), 8, tape), ((1, 1, 1, 2, 2, 1, 1, 1), "most", 17, 5))
 
+    def test_plans_of_three_drafters(self):
+        # All that is drafted is kept, so the three settle 1, 2 and 3 tokens.
+        one, two, three = ("several", 1), ("row", 1), ("row", 2)
+        for plan, rounds in (((one, two, three), 5), ((three, one, two), 4), ((two, three, one), 5), ((three, two, one), 4)):
+            found = write_drafted(FIRST, (), (FIRST, (), plan), (1,), 9, ())
+            self.same((found[0], found[1], found[3]), ((1,) * 9, "most", rounds))
+
     def test_a_tape_that_ends_within_a_round(self):
         # Behind its end all draws are 0: the end token is drafted, tried and kept.
         self.same(write_drafted(COIN, (), ROW, (1,), 4, ()), ((), "end", 2, 1))

@@ -3,6 +3,8 @@
 import doctest
 import unittest
 
+from draftward.errors import DraftError
+
 TOKENS = """
 >>> from draftward.tokens import judge_tokens, piece, size, to_text, to_tokens, trained
 >>> PAIRS = trained(("aab", "ab"), 2)
@@ -94,12 +96,69 @@ SCHEDULES = """
 [3, 7, 2, 'go', 'lose']
 """
 
+BEAMS = """
+>>> from draftward.beams import beam_outcome, best_outcomes, judge_beam
+>>> LURE = ("window", 3, 1, (((1,), (0, 3, 2)), ((2,), (8, 1, 1))), (1, 1, 1))
+>>> best_outcomes(LURE, (), (1,), 2, 2)
+((((1, 1), 'most'), (9, 25)), (((2,), 'end'), (8, 25)))
+>>> [beam_outcome(LURE, (), (1,), 3, 1), beam_outcome(LURE, (), (1,), 3, 2), judge_beam(LURE, (), (1,), 3, 1)]
+[(((1, 1, 1), 'most'), (27, 125)), (((2,), 'end'), (8, 25)), ('missed', ((2,), 'end'))]
+"""
+
+JOURNALS = """
+>>> from draftward.journals import gone_on, is_journal, journal_after, shown
+>>> COIN = ("window", 3, 0, (), (1, 2, 1))
+>>> SERVER = (COIN, ("vocabulary", "ab", ()), 2, 2, 2, (("go",),))
+>>> ASK = ("request", (1,), 2, (), None, None, (3, 1))
+>>> [journal_after(SERVER, ((0, ASK),), 2), journal_after(SERVER, ((0, ASK),), 9), shown(SERVER, ((0, ASK),), ((0, (2,), None, 1),))]
+[((0, (2,), None, 1),), ((0, (2,), None, 1), (0, (1,), 'most', 2)), ('b',)]
+>>> [gone_on(SERVER, ((0, ASK),), ((0, (2,), None, 1),), 5), is_journal(SERVER, ((0, ASK),), ((0, (1,), None, 1),))]
+[(5, (2, (None, None), ((0, ()),)), ((0, (2,), 1, 1),), ()), False]
+"""
+
+COUNTING = """
+>>> from draftward.counting import counted, period, reach
+>>> COIN = ("window", 3, 0, (), (1, 2, 1))
+>>> EVEN = ("window", 3, 0, (), (1, 1, 1))
+>>> ROW = (EVEN, (), (("row", 1),))
+>>> [period(COIN, (), None, (1,), 1), reach(COIN, (), None, (1,), 2), counted(COIN, (), None, (1,), 1, 4, 1)]
+[4, 2, ((((), 'end'), 1), (((1,), 'most'), 2), (((2,), 'most'), 1))]
+>>> [period(COIN, (), ROW, (1,), 1), reach(COIN, (), ROW, (1,), 1), counted(COIN, (), ROW, (1,), 1, 12, 3)]
+[12, 3, ((((), 'end'), 432), (((1,), 'most'), 864), (((2,), 'most'), 432))]
+"""
+
+TRACES = r"""
+>>> from draftward.traces import judge_trace, model_text, read_model, read_vocabulary, trace_of, vocabulary_text
+>>> LAST = ("window", 3, 1, (((), (1, 1, 1)), ((1,), (0, 1, 3))), (1, 2, 1))
+>>> [model_text(LAST), read_model(model_text(LAST)) == LAST, vocabulary_text(("vocabulary", "ab", ((1, 2),)))]
+['window 3 1\ndefault 1 2 1\nafter: 1 1 1\nafter 1: 0 1 3', True, 'letters ab\nmerge 1 2']
+>>> read_vocabulary("letters ab\nmerge 1 9")
+raises BadLine(at=2)
+>>> COIN = ("window", 3, 0, (), (1, 2, 1))
+>>> SERVER = (COIN, None, 2, 2, 2, (("go",),))
+>>> ASK = ("request", (1,), 1, (), None, None, (3,))
+>>> [trace_of(SERVER, ((0, ASK),)), judge_trace(SERVER, ((0, ASK),), ((("admitted", 0, 0),),))]
+[((('admitted', 0, 0), ('works', 0, (1,))), (('round', 0, (2,), 'most'),)), ('wrong', 0, 1)]
+"""
+
+
+def raised_by(call):
+    """Print what the document writes of the error that the call raises."""
+    try:
+        call()
+    except DraftError as error:
+        given = ", ".join(f"{name}={value!r}" for name, value in vars(error).items())
+        print(f"raises {error.__class__.__name__}({given})")
+
 
 class Examples(unittest.TestCase):
 
     def check(self, text, name, many):
-        test = doctest.DocTestParser().get_doctest(text, {}, name, None, 0)
+        test = doctest.DocTestParser().get_doctest(text, {"raised_by": raised_by}, name, None, 0)
         self.assertEqual(len(test.examples), many)
+        for example in test.examples:
+            if example.want.startswith("raises "):
+                example.source = f"raised_by(lambda: {example.source.strip()})\n"
         report = []
         failed, tried = doctest.DocTestRunner(verbose=False).run(test, out=report.append)
         self.assertEqual(tried, many)
@@ -128,6 +187,18 @@ class Examples(unittest.TestCase):
 
     def test_schedules(self):
         self.check(SCHEDULES, "schedules", 7)
+
+    def test_beams(self):
+        self.check(BEAMS, "beams", 4)
+
+    def test_journals(self):
+        self.check(JOURNALS, "journals", 6)
+
+    def test_counting(self):
+        self.check(COUNTING, "counting", 6)
+
+    def test_traces(self):
+        self.check(TRACES, "traces", 8)
 
 
 if __name__ == "__main__":

@@ -20,7 +20,7 @@ LIBRARY = {
 }
 METHODS = set("""append clear copy count endswith extend find get index insert isalnum isalpha isdigit islower isspace isupper
     items join keys ljust lower lstrip partition pop remove replace reverse rfind rjust rpartition rsplit rstrip setdefault
-    split splitlines startswith strip update upper values zfill bit_length add discard sort""".split())
+    split splitlines startswith strip update upper values zfill bit_length add discard sort removeprefix""".split())
 BARRED = set("""type typing typing_extensions enum Enum IntEnum StrEnum Flag IntFlag Generic Protocol ABC ABCMeta namedtuple
     NamedTuple TypedDict TYPE_CHECKING abstractmethod dataclass overload contextmanager register mro elements open input law
     version_info with_traceback add_note eval exec compile globals locals vars dir id os sys _wall _WallAttr""".split())
