@@ -46,7 +46,8 @@ def _with_next(found, counts):
     longer = {}
     for outcomes, many in found.items():
         for outcome, times_more in counts.items():
-            longer[(*outcomes, outcome)] = many * times_more
+            more_outcomes = (*outcomes, outcome)
+            longer[more_outcomes] = many * times_more
     return longer
 
 

@@ -142,6 +142,12 @@ class Language(unittest.TestCase):
             if isinstance(node, ast.Compare) and any(isinstance(sign, (ast.Is, ast.IsNot)) for sign in node.ops):
                 self.assertIsInstance(node.comparators[0], ast.Constant, place)
 
+    def test_no_index_has_a_star_in_its_brackets(self):
+        for place, node in all_nodes():
+            if isinstance(node, ast.Subscript):
+                stars = [part for part in ast.walk(node.slice) if isinstance(part, ast.Starred)]
+                self.assertEqual(stars, [], place)
+
     def test_names_and_methods(self):
         # The doctest runner may leave a "_" among the builtins.
         words = set(dir(builtins)) - {"_"}
